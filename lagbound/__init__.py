@@ -1,0 +1,1 @@
+"""Lagbound: machines that write words while they read words."""

@@ -1,0 +1,55 @@
+"""Tests that the interface exists as it is written: points [2], [3] and [5]."""
+
+import importlib
+import inspect
+import unittest
+
+FUNCTIONS = {
+    "words": {
+        "is_letters": "(value)", "is_word": "(letters, value)", "check_letters": "(letters)",
+        "check_word": "(letters, word)", "check_name": "(name)", "word_key": "(word)", "sort_words": "(words)",
+        "first_word": "(words)", "all_words": "(letters, most)", "word_index": "(letters, word)",
+        "word_at": "(letters, index)", "common": "(words)", "starts": "(prefix, word)", "cut": "(prefix, word)",
+        "lag_of": "(first, second)", "move_lag": "(pair, first, second)", "turn_word": "(word)",
+        "show_word": "(word)", "read_shown": "(letters, text)",
+    },
+    "acceptors": {"least_acceptor": "(acceptor)", "is_least_acceptor": "(acceptor)"},
+    "wordsets": {
+        "all_of": "(letters)", "none_of": "(letters)", "only": "(letters, words)", "least_word": "(acceptor)",
+        "words_of": "(acceptor, *, most=20)", "count_words": "(acceptor, length)", "differ": "(first, second)",
+    },
+}
+
+CLASSES = {
+    "acceptors": {
+        "Acceptor": ("(letters, moves, ends)", ("letters", "moves", "ends"),
+                     {"__len__": "(self)", "__contains__": "(self, value)", "state_after": "(self, word)",
+                      "__and__": "(self, other)", "__or__": "(self, other)", "__invert__": "(self)"}),
+    },
+}
+
+
+def module(name):
+    return importlib.import_module("lagbound." + name)
+
+
+class Interface(unittest.TestCase):
+    def test_functions(self):
+        for home, functions in FUNCTIONS.items():
+            for name, signature in functions.items():
+                function = getattr(module(home), name)
+                self.assertTrue(inspect.isfunction(function), name)
+                self.assertEqual(function.__module__, "lagbound." + home, name)
+                self.assertEqual(str(inspect.signature(function)), signature, name)
+
+    def test_classes(self):
+        for home, classes in CLASSES.items():
+            for name, (signature, properties, methods) in classes.items():
+                made = getattr(module(home), name)
+                self.assertEqual(made.__module__, "lagbound." + home, name)
+                self.assertEqual(str(inspect.signature(made)), signature, name)
+                for told in properties:
+                    self.assertIsInstance(vars(made)[told], property, told)
+                    self.assertIsNone(vars(made)[told].fset, told)
+                for told, told_signature in methods.items():
+                    self.assertEqual(str(inspect.signature(vars(made)[told])), told_signature, told)
