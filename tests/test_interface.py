@@ -18,6 +18,15 @@ FUNCTIONS = {
         "all_of": "(letters)", "none_of": "(letters)", "only": "(letters, words)", "least_word": "(acceptor)",
         "words_of": "(acceptor, *, most=20)", "count_words": "(acceptor, length)", "differ": "(first, second)",
     },
+    "courses": {
+        "is_way": "(machine, paper)", "is_course": "(machine, paper)", "read_of": "(course)", "told_of": "(course)",
+        "course_count": "(machine, word)", "courses": "(machine, word, *, most=50)",
+    },
+    "telling": {
+        "told_words": "(machine, word, *, most=20)", "least_told": "(machine, word)", "takes": "(machine, word)",
+        "tells": "(machine, word, told)",
+    },
+    "machinetext": {"show_machine": "(machine)", "read_machine": "(text)"},
 }
 
 CLASSES = {
@@ -25,6 +34,10 @@ CLASSES = {
         "Acceptor": ("(letters, moves, ends)", ("letters", "moves", "ends"),
                      {"__len__": "(self)", "__contains__": "(self, value)", "state_after": "(self, word)",
                       "__and__": "(self, other)", "__or__": "(self, other)", "__invert__": "(self)"}),
+    },
+    "machines": {
+        "Machine": ("(read, write, size, *, begins=(), arcs=(), ends=())",
+                    ("read", "write", "size", "begins", "arcs", "ends"), {"__len__": "(self)", "__iter__": "(self)"}),
     },
 }
 
