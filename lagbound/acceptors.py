@@ -80,9 +80,10 @@ def checked_ends(size, ends):
 
 def moved(letters, moves, word):
     """The state that the moves lead to over the word."""
+    places = {letter: place for place, letter in enumerate(letters)}
     state = 0
     for letter in word:
-        state = moves[state][letters.index(letter)]
+        state = moves[state][places[letter]]
     return state
 
 

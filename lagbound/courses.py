@@ -2,7 +2,7 @@
 
 from lagbound.checks import check_number
 from lagbound.machines import is_arc, is_pair
-from lagbound.stepping import arcs_by_letter, labels_over, pairs_by_state
+from lagbound.stepping import arcs_by_letter, entries_by_state, labels_over
 from lagbound.words import check_word
 
 MAX_COURSES = 200
@@ -59,7 +59,7 @@ def course_count(machine, word):
     """The number of courses that read the word."""
     check_word(machine.read, word)
     arcs = arcs_by_letter(machine)
-    counts = {state: len(pairs) for state, pairs in pairs_by_state(machine.begins).items()}
+    counts = {state: len(pairs) for state, pairs in entries_by_state(machine.begins).items()}
     for letter in word:
         fresh = {}
         for state, count in counts.items():
@@ -79,7 +79,7 @@ def courses(machine, word, *, most=50):
     rows = [[(0, begin) for begin in begins[:most]]]
     for at, letter in enumerate(word):
         rows.append(longer_row(rows[-1], arcs[letter], labels[at + 1], most))
-    rows.append(longer_row(rows[-1], pairs_by_state(machine.ends), labels[-1], most))
+    rows.append(longer_row(rows[-1], entries_by_state(machine.ends), labels[-1], most))
     return [course_at(rows, at) for at in range(len(rows[-1]))]
 
 

@@ -49,10 +49,15 @@ class Machine:
         return list(self._ends)
 
     def __len__(self):
-        return len(range(self._size))
+        return len(list(range(self._size)))
 
     def __iter__(self):
         return iter(self._arcs)
+
+
+def same_alphabets(first, second):
+    """Whether two machines or readers have the same read alphabet and the same write alphabet."""
+    return first.read == second.read and first.write == second.write
 
 
 def is_pair(value, write, size):

@@ -9,18 +9,22 @@ def arcs_by_letter(machine):
     return table
 
 
-def pairs_by_state(pairs):
-    """For each state of a begin or an end the list of its begins or ends in order."""
+def entries_by_state(entries):
+    """For each state of begins or ends, or source of arcs, the list of these entries in order."""
     table = {}
-    for pair in pairs:
-        table.setdefault(pair[0], []).append(pair)
+    for entry in entries:
+        table.setdefault(entry[0], []).append(entry)
     return table
 
 
 def labels_over(machine, word):
     """For each position of the word, the end included, the states that can read the rest and then end."""
-    arcs = arcs_by_letter(machine)
-    label = {pair[0]: True for pair in machine.ends}
+    return labels_before(arcs_by_letter(machine), [pair[0] for pair in machine.ends], word)
+
+
+def labels_before(arcs, states, word):
+    """For each position of the word, the end included, the states that can read the rest and come to one of those."""
+    label = {state: True for state in states}
     backwards = [label]
     for letter in reversed(word):
         label = {state: True for state, row in arcs[letter].items() if leads_into(row, label)}

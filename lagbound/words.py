@@ -89,7 +89,7 @@ def all_words(letters, most):
     longest = [""]
     for _ in range(most):
         longest = [word + letter for word in longest for letter in letters]
-        words.extend(longest)
+        words.extend(list(longest))
     return words
 
 
@@ -119,12 +119,18 @@ def word_at(letters, index):
 
 def shared_length(first, second):
     """The number of letters of the common prefix of two texts."""
-    count = 0
-    for left, right in zip(first, second):
-        if left != right:
-            return count
-        count += 1
-    return count
+    most = min(len(first), len(second))
+    shared = 0
+    # Pieces are compared instead of letters, because the texts may be long. The next piece is longer
+    # if this one was shared and shorter if it was not.
+    size = 1
+    while size > 0:
+        if shared + size <= most and first[shared:shared + size] == second[shared:shared + size]:
+            shared += size
+            size *= 2
+        else:
+            size = size // 2
+    return shared
 
 
 def common(words):

@@ -69,7 +69,7 @@ def words_of(acceptor, *, most=20):
     words = {end: [""] for end in acceptor.ends if end in sources}
     found = []
     while words and len(found) < most:
-        found.extend(words.get(0, []))
+        found.extend(list(words.get(0, [])))
         words = longer_words(letters, moves, sources, words, most)
     return found[:most]
 

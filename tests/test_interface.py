@@ -27,6 +27,33 @@ FUNCTIONS = {
         "tells": "(machine, word, told)",
     },
     "machinetext": {"show_machine": "(machine)", "read_machine": "(text)"},
+    "shaping": {
+        "useful_states": "(machine)", "trim": "(machine)", "renumber": "(machine, order)", "unite": "(first, second)",
+        "turn": "(machine)", "restrict": "(machine, acceptor)",
+    },
+    "behind": {"behind": "(first, second)"},
+    "projections": {
+        "taken": "(machine)", "all_told": "(machine)", "never_told": "(machine)", "copying": "(acceptor)",
+    },
+    "square": {
+        "twin_pairs": "(machine, *, other=None)", "meeting_pairs": "(machine, *, other=None)",
+        "pair_steps": "(machine, *, other=None)", "lags_after": "(machine, word, *, other=None)",
+    },
+    "onlyone": {
+        "clash": "(machine, *, other=None)", "clash_bound": "(machine, *, other=None)",
+        "one_lag_table": "(machine, *, other=None)", "is_one_lag": "(machine, table, *, other=None)",
+        "two_words": "(machine)", "tells_one": "(machine)", "is_two_words": "(machine, paper)",
+    },
+    "growth": {
+        "growth": "(machine)", "steady": "(machine)", "is_growth": "(machine, paper)", "lag_bound": "(machine)",
+        "lag_table": "(machine)", "is_lag_table": "(machine, table)", "pumped_lag": "(paper, times)",
+        "spread": "(machine, paper, times)",
+    },
+    "readers": {"empty_reader": "(read, write)", "reader_machine": "(reader)"},
+    "rests": {
+        "build": "(machine)", "rests": "(machine)", "is_rests": "(machine, reader, table)", "fate": "(machine)",
+        "is_fate": "(machine, paper)",
+    },
 }
 
 CLASSES = {
@@ -38,6 +65,11 @@ CLASSES = {
     "machines": {
         "Machine": ("(read, write, size, *, begins=(), arcs=(), ends=())",
                     ("read", "write", "size", "begins", "arcs", "ends"), {"__len__": "(self)", "__iter__": "(self)"}),
+    },
+    "readers": {
+        "Reader": ("(read, write, first, moves, finals)", ("read", "write", "first", "moves", "finals"),
+                   {"__len__": "(self)", "__rshift__": "(self, other)", "state_after": "(self, word)",
+                    "written_after": "(self, word)", "tell": "(self, word)", "tail": "(self, state, word)"}),
     },
 }
 

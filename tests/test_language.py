@@ -80,6 +80,53 @@ def docstrings(tree):
             and isinstance(row.body[0].value, ast.Constant)]
 
 
+CHANGING = {"append", "clear", "extend", "insert", "pop", "remove", "reverse", "setdefault", "update", "add", "discard", "sort"}
+
+
+def functions():
+    """All functions and methods of the package, as pairs of the file and the definition."""
+    return nodes(ast.FunctionDef)
+
+
+def assigned_attributes():
+    """The names of all attributes that some class keeps, and of all properties."""
+    kept = {node.attr for _, node in nodes(ast.Attribute) if isinstance(node.ctx, ast.Store)}
+    return kept | {node.name for _, node in functions() if node.decorator_list}
+
+
+def run_by_operators():
+    """The functions that operators, properties and __len__ run, through all calls by names that are known."""
+    classes = {row.name: row for _, tree in trees() for row in tree.body if isinstance(row, ast.ClassDef)}
+    known = {}
+    for path, node in functions():
+        known.setdefault(node.name, []).append((path, node))
+    waiting = [(path, node) for path, tree in trees() for node in methods_of(tree)
+               if node.decorator_list or node.name in SPECIAL - {"__init__"}]
+    found = {}
+    while waiting:
+        path, node = waiting.pop()
+        if id(node) in found:
+            continue
+        found[id(node)] = (path, node)
+        for call in [row for row in ast.walk(node) if isinstance(row, ast.Call)]:
+            name = call.func.id if isinstance(call.func, ast.Name) else call.func.attr
+            if name in classes:
+                waiting.extend((path, row) for row in classes[name].body if getattr(row, "name", "") == "__init__")
+            elif isinstance(call.func, ast.Name):
+                waiting.extend(known.get(name, []))
+    return list(found.values())
+
+
+def created_only(function, name):
+    """Whether a local variable is only ever assigned a new list or dict."""
+    values = [row.value for row in ast.walk(function) if isinstance(row, ast.Assign)
+              for target in row.targets if isinstance(target, ast.Name) and target.id == name]
+    new = (ast.List, ast.Dict, ast.ListComp, ast.DictComp)
+    loops = [row for row in ast.walk(function) if isinstance(row, ast.For)
+             and name in {part.id for part in ast.walk(row.target) if isinstance(part, ast.Name)}]
+    return bool(values) and not loops and name not in arguments(function) and all(isinstance(row, new) for row in values)
+
+
 class Language(unittest.TestCase):
     def none(self, found, rule):
         self.assertEqual(found, [], rule)
@@ -146,6 +193,39 @@ class Language(unittest.TestCase):
                 if row.name == "__iter__":
                     self.assertEqual(len(row.body), 1, path.name)
                     self.assertRegex(ast.unparse(row.body[0]), r"\Areturn iter\(self\.\w+\)\Z", path.name)
+
+    def test_l5_what_operators_run(self):
+        kept = assigned_attributes()
+        rows = run_by_operators()
+        self.assertTrue({"moved", "least_tables", "chained", "run_over", "checked_rows"} <= {node.name for _, node in rows})
+        for path, function in rows:
+            local = set(arguments(function)) | {row.id for row in ast.walk(function)
+                                                if isinstance(row, ast.Name) and isinstance(row.ctx, STORED)}
+            for node in ast.walk(function):
+                where = f"{path.name}:{getattr(node, 'lineno', 0)}: L5"
+                if isinstance(node, ast.Call) and isinstance(node.func, ast.Name):
+                    self.assertNotIn(node.func.id, local, where)
+                if isinstance(node, ast.Call) and isinstance(node.func, ast.Attribute):
+                    self.assertIn(node.func.attr, METHODS, where)
+                    self.assertNotIn(node.func.attr, kept, where)
+                    if node.func.attr in CHANGING:
+                        self.assertIsInstance(node.func.value, ast.Name, where)
+                        self.assertTrue(created_only(function, node.func.value.id), where)
+                if isinstance(node, ast.Subscript) and isinstance(node.ctx, STORED):
+                    self.assertIsInstance(node.value, ast.Name, where)
+                    self.assertTrue(created_only(function, node.value.id), where)
+                if isinstance(node, ast.Attribute) and isinstance(node.ctx, STORED):
+                    self.assertEqual((function.name, node.value.id), ("__init__", "self"), where)
+                if isinstance(node, ast.AugAssign):
+                    self.assertIsInstance(node.target, ast.Name, where)
+                    self.assertIsInstance(node.value, ast.Constant, where)
+                self.assertNotIsInstance(node, (ast.Lambda, ast.Delete), where)
+
+    def test_l28_what_len_gives(self):
+        for path, tree in trees():
+            for row in methods_of(tree):
+                if row.name == "__len__":
+                    self.assertNotRegex(ast.unparse(row.body[-1]), r"\Areturn len\(range\(", f"{path.name}: L28")
 
     def test_l6_statements(self):
         self.none(self.told([(path, node) for path, node in nodes(ast.stmt) if not isinstance(node, STATEMENTS)]), "L6")
@@ -267,6 +347,25 @@ class Language(unittest.TestCase):
                     name = node.func.id if isinstance(node.func, ast.Name) else node.func.attr
                     if name in ("zip", "enumerate", "reversed", "range", "map", "items", "keys", "values"):
                         self.assertIn(id(node), allowed, f"{path.name}:{node.lineno}: L23")
+
+    def test_l23_what_is_walked_is_not_changed(self):
+        fresh = (ast.List, ast.ListComp)
+        for path, node in nodes(ast.Call):
+            if isinstance(node.func, ast.Attribute) and node.func.attr in ("extend", "update"):
+                given = node.args[0]
+                copied = isinstance(given, ast.Call) and isinstance(given.func, ast.Name) and given.func.id in ("list", "dict")
+                self.assertTrue(copied or isinstance(given, fresh), f"{path.name}:{node.lineno}: L23")
+        for path, node in nodes(ast.For):
+            walked = {row.id for row in ast.walk(node.iter) if isinstance(row, ast.Name)}
+            walked |= {row.attr for row in ast.walk(node.iter) if isinstance(row, ast.Attribute)}
+            for row in [part for line in node.body for part in ast.walk(line)]:
+                changed = None
+                if isinstance(row, ast.Call) and isinstance(row.func, ast.Attribute) and row.func.attr in CHANGING:
+                    changed = row.func.value
+                if isinstance(row, ast.Subscript) and isinstance(row.ctx, STORED):
+                    changed = row.value
+                name = getattr(changed, "id", getattr(changed, "attr", None))
+                self.assertNotIn(name, walked, f"{path.name}:{getattr(row, 'lineno', 0)}: L23")
 
     def test_l24_sets(self):
         for path, tree in trees():
