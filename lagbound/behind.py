@@ -11,17 +11,23 @@ class Runs:
 
     def __init__(self, machine):
         self.table = arcs_by_letter(machine)
+        self.states = list(range(machine.size))
         self.known = {}
 
     def targets(self, state, word):
         """The states that runs over the word come to from the state."""
-        if (state, word) not in self.known:
-            reached = {state: True}
-            for letter in word:
-                row = self.table[letter]
-                reached = {arc[3]: True for source in reached for arc in row.get(source, [])}
-            self.known[(state, word)] = list(reached)
-        return self.known[(state, word)]
+        if word not in self.known:
+            self.known[word] = self.reached(word)
+        return self.known[word][state]
+
+    def reached(self, word):
+        """For each state the states that runs over the word come to from there."""
+        # Bit k of a number stands for state k. The runs from all states are followed at once, from behind.
+        bits = [1 << state for state in self.states]
+        for letter in reversed(word):
+            row = self.table[letter]
+            bits = [joined_bits(row.get(state, []), bits) for state in self.states]
+        return [[target for target in self.states if (number >> target) & 1] for number in bits]
 
     def written(self, starts, word, last, what):
         """For each state that runs over the word come to the different words written there.
@@ -56,6 +62,14 @@ class Runs:
         return fresh
 
 
+def joined_bits(arcs, bits):
+    """The number with the bits of all targets of the arcs."""
+    number = 0
+    for arc in arcs:
+        number = number | bits[arc[3]]
+    return number
+
+
 def behind(first, second):
     """The machine that reads what the first one reads, and writes what the second one writes behind it."""
     if first.write != second.read:
@@ -63,7 +77,7 @@ def behind(first, second):
     runs = Runs(second)
     numbers = found_pairs(first, second, runs)
     begins = begins_behind(first, second, runs, numbers)
-    arcs = arcs_behind(first, second, runs, numbers)
+    arcs = arcs_behind(first, runs, numbers)
     ends = ends_behind(first, second, runs, numbers)
     return built_machine(first.read, second.write, len(numbers), begins, arcs, ends)
 
@@ -95,24 +109,22 @@ def held_states(numbers):
 def begins_behind(first, second, runs, numbers):
     """The begins of `behind`."""
     starts = {state: [pair[1] for pair in pairs] for state, pairs in entries_by_state(second.begins).items()}
-    everywhere = list(range(second.size))
     entries = {}
     for state, word in first.begins:
-        for after, texts in runs.written(starts, word, everywhere, "begins").items():
+        for after, texts in runs.written(starts, word, runs.states, "begins").items():
             for text in texts:
                 entries[(numbers[(state, after)], text)] = True
             check_entries("begins", entries)
     return entries
 
 
-def arcs_behind(first, second, runs, numbers):
+def arcs_behind(first, runs, numbers):
     """The arcs of `behind`."""
     table = held_states(numbers)
-    everywhere = list(range(second.size))
     entries = {}
     for source, letter, word, target in first.arcs:
         for held, number in table.get(source, []):
-            for after, texts in runs.written({held: [""]}, word, everywhere, "arcs").items():
+            for after, texts in runs.written({held: [""]}, word, runs.states, "arcs").items():
                 for text in texts:
                     entries[(number, letter, text, numbers[(target, after)])] = True
                 check_entries("arcs", entries)

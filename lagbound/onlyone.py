@@ -92,7 +92,7 @@ def searched(twins):
     The read words are gone through in the word order. At most two lags are kept for each pair: two different ones
     show a clash for each word that both states can end over, so a third one shows nothing more.
     """
-    steps = meeting_steps(twins)
+    steps = steps_by_letter(twins)
     tails = end_words(twins)
     kept = {pair: [] for pair in meeting_of(twins)}
     starts = [((begin[0], mate[0]), lag_of(begin[1], mate[1])) for begin, mate in twins.starts]
@@ -113,13 +113,11 @@ def searched(twins):
     return None, kept
 
 
-def meeting_steps(twins):
-    """For each meeting pair and each read letter the list of the steps to meeting pairs."""
-    meeting = {pair: True for pair in meeting_of(twins)}
+def steps_by_letter(twins):
+    """For each twin pair and each read letter the list of the steps."""
     table = {}
     for step in twins.steps:
-        if step[3] in meeting:
-            table.setdefault((step[0], step[1]), []).append(step)
+        table.setdefault((step[0], step[1]), []).append(step)
     return table
 
 
@@ -133,7 +131,10 @@ def moved_group(group, steps, letter):
 
 
 def newly_kept(kept, reached):
-    """Those of the reached pairs and lags that are new and kept; they are added to what is kept."""
+    """Those of the reached pairs and lags that are new and kept; they are added to what is kept.
+
+    Pairs that do not meet are no keys of what is kept.
+    """
     fresh = []
     for pair, whole in reached:
         lag = cut_short(whole)

@@ -110,6 +110,28 @@ class Growth(Case):
             arcs = [arc for arc in arcs if arc[2] != ("y" if loop == "x" else "x")]
             self.assertIs(steady(Machine("ab", "xy", 3, begins=[(0, "")], arcs=arcs, ends=[(1, ""), (2, "")])), True)
 
+    def test_loops_that_are_looked_at_late(self):
+        # The one of two unlike lags that is found first is the one that a loop changes, which is gone round later.
+        for begins, arcs in (
+            ([(1, ""), (1, "x")], [(0, "a", "", 1), (1, "a", "x", 0), (1, "b", "y", 0)]),
+            ([(0, ""), (0, "y")], [(0, "a", "", 1), (0, "b", "x", 1), (1, "a", "", 0)]),
+        ):
+            machine = Machine("ab", "xy", 2, begins=begins, arcs=arcs, ends=[(1, "")])
+            self.assertTrue(really_growth(machine, growth(machine)))
+        arcs = [(0, "a", "", 3), (1, "a", "x", 0), (1, "a", "x", 1), (2, "a", "", 1), (3, "a", "x", 2), (3, "a", "y", 2)]
+        machine = Machine("ab", "xy", 4, begins=[(0, "x"), (1, "y")], arcs=arcs, ends=[(3, "")])
+        self.assertTrue(really_growth(machine, growth(machine)))
+
+    def test_loops_that_change_one_of_two_lags(self):
+        # Between 0 and 1 the lag is x; over ba it becomes y. The loop c changes x but not y, or y but not x.
+        for loop in ("x", "y"):
+            arcs = [(0, "a", "", 2), (1, "a", "", 3), (2, "a", "", 0), (3, "a", "", 1), (0, "b", "y", 2), (1, "b", "x", 3),
+                    (0, "c", loop, 0), (1, "c", loop, 1)]
+            machine = Machine("abc", "xy", 4, begins=[(0, "x"), (1, "")], arcs=arcs, ends=[(0, ""), (1, "")])
+            paper = growth(machine)
+            self.assertTrue(really_growth(machine, paper))
+            self.assertLessEqual(len(paper[0][1]), 3 * len(all_pairs(machine, machine)))
+
     def test_unlike_lags_of_begins(self):
         for loop in ("x", "y"):
             arcs = [(0, "a", "", 1), (2, "a", "", 3), (1, "a", loop, 1), (3, "a", loop, 3)]

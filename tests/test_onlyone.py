@@ -140,6 +140,17 @@ class Clash(Case):
         self.same(clash(first, other=second), "a" * 1559)
         self.same(clash_bound(first, other=second), 3119)
 
+    def test_more_lags_than_can_be_listed(self):
+        # Over the one word that both take there are 2 ** 60 lags.
+        arcs = [(level, "a", word, level + 1) for level in range(60) for word in "xy"]
+        machine = Machine("a", "xy", 61, begins=[(0, "")], arcs=arcs, ends=[(60, "")])
+        silent = Machine("a", "xy", 61, begins=[(0, "")], ends=[(60, "")],
+                         arcs=[(level, "a", "", level + 1) for level in range(60)])
+        self.same(clash(machine, other=silent), "a" * 60)
+        self.same(clash(silent, other=machine), "a" * 60)
+        self.same(two_words(machine), ("a" * 60, "x" * 60, "x" * 59 + "y"))
+        self.assertIsNone(clash(silent))
+
     def test_the_bound(self):
         self.same(clash_bound(Machine("a", "x", 0)), 0)
         self.same(clash_bound(Machine("a", "x", 1, begins=[(0, "")])), 0)

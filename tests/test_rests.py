@@ -281,6 +281,15 @@ class JudgingRests(Case):
         # State 1 of the machine is not useful.
         self.assertIs(is_rests(machine, reader, [[(0, "")], [(1, "")]]), False)
 
+    def test_states_that_are_not_useful(self):
+        # Nothing leads on from the wrong states, so the rows agree in all else.
+        machine = Machine("a", "x", 3, begins=[(0, "")], arcs=[(0, "a", "", 1)], ends=[(0, ""), (2, "x")])
+        reader = Reader("a", "x", "", [[None], [None]], ["", None])
+        self.assertIs(is_rests(machine, reader, [[(0, "")], []]), True)
+        for state in (1, 2, 3, -1, HUGE, -HUGE, True, None):
+            self.assertIs(is_rests(machine, reader, [[(0, "")], [(state, "")]]), False)
+        self.assertIs(is_rests(machine, Reader("a", "x", "", [[None], [None]], ["", "x"]), [[(0, "")], [(2, "")]]), False)
+
     def test_moves_to_empty_rows(self):
         machine = Machine("a", "x", 1, begins=[(0, "")], ends=[(0, "")])
         reader = Reader("a", "x", "", [[("x", 1)], [("xx", 1)]], ["", None])
