@@ -132,6 +132,17 @@ class Growth(Case):
             self.assertTrue(really_growth(machine, paper))
             self.assertLessEqual(len(paper[0][1]), 3 * len(all_pairs(machine, machine)))
 
+    def test_lags_that_are_reached_again_first(self):
+        # The states 0 and 1 keep their lag by a; later they have the lag x, which the loop of b keeps and that of c not.
+        arcs = [(0, "a", "", 0), (1, "a", "", 1), (2, "a", "x", 0), (3, "a", "", 1), (0, "b", "", 4), (1, "b", "", 5),
+                (4, "b", "x", 4), (5, "b", "x", 5), (0, "c", "", 6), (1, "c", "", 7)]
+        begins, ends = [(state, "") for state in range(4)], [(state, "") for state in range(4, 8)]
+        for loop in ("x", "y"):
+            more = [(6, "c", loop, 6), (7, "c", loop, 7)]
+            machine = Machine("abc", "xy", 8, begins=begins, arcs=arcs + more, ends=ends)
+            self.assertIs(steady(machine), loop == "x")
+            self.assertIs(machine_lags(machine) is None, loop == "y")
+
     def test_unlike_lags_of_begins(self):
         for loop in ("x", "y"):
             arcs = [(0, "a", "", 1), (2, "a", "", 3), (1, "a", loop, 1), (3, "a", loop, 3)]
@@ -155,11 +166,22 @@ class Growth(Case):
 
     def test_many_differences(self):
         # The lags are of one letter, so they have unlike differences, and the loop keeps each of them.
-        arcs = [(level, "a", "x" * size, level + 1) for level in range(12) for size in (0, 1, 5, 25)]
-        machine = Machine("ab", "xy", 13, begins=[(0, "")], arcs=arcs + [(12, "b", "x", 12)], ends=[(12, "")])
-        self.assertIs(steady(machine), True)
-        machine = Machine("ab", "xy", 13, begins=[(0, "")], arcs=arcs + [(12, "b", "y", 12)], ends=[(12, "")])
+        arcs = [(level, "a", "x" * size, level + 1) for level in range(60) for size in (0, 1, 5, 25, 113, 400)]
+        for loop, grows in (("", False), ("x", False), ("xxx", False), ("y", True), ("xy", True)):
+            machine = Machine("ab", "xy", 61, begins=[(0, "")], arcs=arcs + [(60, "b", loop, 60)], ends=[(60, "")])
+            self.assertIs(steady(machine), not grows)
+            if grows:
+                self.assertTrue(really_growth(machine, growth(machine)))
+        # Of many lags that fit before the loop, one does not.
+        more = [(0, "a", "y" + "x" * 399, 1)]
+        machine = Machine("ab", "xy", 61, begins=[(0, "")], arcs=arcs + more + [(60, "b", "x", 60)], ends=[(60, "")])
         self.assertTrue(really_growth(machine, growth(machine)))
+        # One that is found late, behind two ways that fit and are shorter.
+        arcs = [(0, "a", "", 1), (0, "a", "x", 1), (0, "a", "xx", 1), (1, "a", "x", 1), (0, "b", "x", 2), (2, "a", "xyx", 3),
+                (3, "a", "", 1)]
+        machine = Machine("ab", "xy", 4, begins=[(0, "")], arcs=arcs + [(0, "b", "", 1)], ends=[(1, "")])
+        self.assertTrue(really_growth(machine, growth(machine)))
+        self.assertIs(machine_lags(machine), None)
 
     def test_large_rings(self):
         for machine, grows in ((rings(20, 19), True), (rings(28, 28, "x", "x"), False), (rings(12, 13, "xy", "xy"), False),
