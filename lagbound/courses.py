@@ -61,12 +61,17 @@ def course_count(machine, word):
     arcs = arcs_by_letter(machine)
     counts = {state: len(pairs) for state, pairs in entries_by_state(machine.begins).items()}
     for letter in word:
-        fresh = {}
-        for state, count in counts.items():
-            for arc in arcs[letter].get(state, []):
-                fresh[arc[3]] = fresh.get(arc[3], 0) + count
-        counts = fresh
+        counts = counts_on(counts, arcs[letter])
     return sum([counts.get(end[0], 0) for end in machine.ends])
+
+
+def counts_on(counts, arcs):
+    """For each state the number of ways to it after one more letter, which the arcs read."""
+    fresh = {}
+    for state, count in counts.items():
+        for arc in arcs.get(state, []):
+            fresh[arc[3]] = fresh.get(arc[3], 0) + count
+    return fresh
 
 
 def courses(machine, word, *, most=50):

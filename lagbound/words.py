@@ -126,7 +126,7 @@ def shared_length(first, second):
     size = 1
     while size > 0:
         if shared + size <= most and first[shared:shared + size] == second[shared:shared + size]:
-            shared += size
+            shared = shared + size
             size *= 2
         else:
             size = size // 2

@@ -113,7 +113,7 @@ def count_words(acceptor, length):
         fresh = [0] * len(moves)
         for state, row in enumerate(moves):
             for target in row:
-                fresh[target] += counts[state]
+                fresh[target] = fresh[target] + counts[state]
         counts = fresh
     return sum([counts[end] for end in acceptor.ends])
 

@@ -367,6 +367,31 @@ class Language(unittest.TestCase):
                 name = getattr(changed, "id", getattr(changed, "attr", None))
                 self.assertNotIn(name, walked, f"{path.name}:{getattr(row, 'lineno', 0)}: L23")
 
+    def test_l23_names_of_one_list_are_not_walked_and_changed(self):
+        for path, function in functions():
+            names = {}
+            for node in ast.walk(function):
+                if isinstance(node, ast.Assign) and isinstance(node.value, ast.Name):
+                    for target in node.targets:
+                        if isinstance(target, ast.Name):
+                            group = names.get(target.id, {target.id}) | names.get(node.value.id, {node.value.id})
+                            names.update({name: group for name in group})
+            for loop in [node for node in ast.walk(function) if isinstance(node, ast.For)]:
+                walked = {row.id for row in ast.walk(loop.iter) if isinstance(row, ast.Name)}
+                walked = {name for told in walked for name in names.get(told, {told})}
+                for row in [part for line in loop.body for part in ast.walk(line)]:
+                    changed = None
+                    if isinstance(row, ast.Call) and isinstance(row.func, ast.Attribute) and row.func.attr in CHANGING:
+                        changed = row.func.value
+                    if isinstance(row, ast.Subscript) and isinstance(row.ctx, STORED):
+                        changed = row.value
+                    self.assertNotIn(getattr(changed, "id", None), walked, f"{path.name}:{getattr(row, 'lineno', 0)}: L23")
+
+    def test_l23_sums_are_written_out(self):
+        for path, node in nodes(ast.AugAssign):
+            self.assertIsInstance(node.target, ast.Name, f"{path.name}:{node.lineno}: L23")
+            self.assertIsInstance(node.value, ast.Constant, f"{path.name}:{node.lineno}: L23")
+
     def test_l24_sets(self):
         for path, tree in trees():
             allowed = set()
