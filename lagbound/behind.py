@@ -29,7 +29,7 @@ class Runs:
             bits = [joined_bits(row.get(state, []), bits) for state in self.states]
         return [[target for target in self.states if (number >> target) & 1] for number in bits]
 
-    def written(self, starts, word, last, what):
+    def texts_over(self, starts, word, last, what):
         """For each state that runs over the word come to the different words written there.
 
         `starts` has for each first state the words that are written before. Only last states in `last` count. More
@@ -111,7 +111,7 @@ def begins_behind(first, second, runs, numbers):
     starts = {state: [pair[1] for pair in pairs] for state, pairs in entries_by_state(second.begins).items()}
     entries = {}
     for state, word in first.begins:
-        for after, texts in runs.written(starts, word, runs.states, "begins").items():
+        for after, texts in runs.texts_over(starts, word, runs.states, "begins").items():
             for text in texts:
                 entries[(numbers[(state, after)], text)] = True
             check_entries("begins", entries)
@@ -124,7 +124,7 @@ def arcs_behind(first, runs, numbers):
     entries = {}
     for source, letter, word, target in first.arcs:
         for held, number in table.get(source, []):
-            for after, texts in runs.written({held: [""]}, word, runs.states, "arcs").items():
+            for after, texts in runs.texts_over({held: [""]}, word, runs.states, "arcs").items():
                 for text in texts:
                     entries[(number, letter, text, numbers[(target, after)])] = True
                 check_entries("arcs", entries)
@@ -138,7 +138,7 @@ def ends_behind(first, second, runs, numbers):
     entries = {}
     for state, word in first.ends:
         for held, number in table.get(state, []):
-            for after, texts in runs.written({held: [""]}, word, list(final), "ends").items():
+            for after, texts in runs.texts_over({held: [""]}, word, list(final), "ends").items():
                 for text in texts:
                     for end in final[after]:
                         entries[(number, text + end[1])] = True

@@ -9,6 +9,7 @@ from lagbound.loops import growing_paper
 from lagbound.onlyone import two_words_of
 from lagbound.plain import in_range
 from lagbound.shaping import useful_states
+from lagbound.stepping import least_endings
 from lagbound.twins import twins_of, useful_arcs, useful_begins
 from lagbound.words import lag_of
 
@@ -47,7 +48,7 @@ def state_at(way, at):
 
 def lag_bound(machine):
     """A number of letters that no side of a lag entry exceeds if the machine is steady."""
-    count = len(twins_of(machine, None).pairs)
+    count = len(twins_of(machine, None).all_pairs)
     if count == 0:
         return 0
     longest_begin = max([len(begin[1]) for begin in useful_begins(machine)])
@@ -87,7 +88,7 @@ def is_lag_table(machine, table):
     twins = twins_of(machine, None)
     if not is_table(table, machine.write):
         return False
-    pairs = {pair: True for pair in twins.pairs}
+    pairs = {pair: True for pair in twins.all_pairs}
     for entry in table:
         if entry[:2] not in pairs or lag_of(entry[2], entry[3]) != entry[2:]:
             return False
@@ -116,7 +117,7 @@ def spread(machine, paper, times):
     if two is not None:
         raise TwoWords(two)
     first, second, at = paper
-    endings = least_endings(machine)
+    endings = least_endings(machine.arcs, machine.ends)
     word1, told1 = completed(pumped(first, at, times), endings)
     word2, told2 = completed(pumped(second, at, times), endings)
     return word1, told1, word2, told2
@@ -126,21 +127,3 @@ def completed(way, endings):
     """What the way with its least ending reads, and what it tells."""
     word, written = endings[last_state(way)]
     return read_of(way) + word, told_of(way) + written
-
-
-def least_endings(machine):
-    """For each state that can end the least read word over which it does, and what is written over this word."""
-    endings = {state: ("", written) for state, written in reversed(machine.ends)}
-    grown = True
-    while grown:
-        # All endings that a round finds have the same length, so that they are compared by their letters.
-        fresh = {}
-        for source, letter, written, target in machine.arcs:
-            if source not in endings and target in endings:
-                word, rest = endings[target]
-                ending = (letter + word, written + rest)
-                fresh[source] = min(ending, fresh.get(source, ending))
-        for state, ending in fresh.items():
-            endings[state] = ending
-        grown = len(fresh) > 0
-    return endings

@@ -10,7 +10,7 @@ EXACT = "exact"  # the only text
 LETTERS = "letters"  # None, since any alphabet may stand there
 LETTER = "letter"  # the alphabet
 SHOWN = "shown"  # the alphabet
-NUMERAL = "numeral"  # the greatest number
+NUMERAL = "numeral"  # the pair of the least and the greatest number
 
 
 def split_lines(text):
@@ -35,7 +35,7 @@ def read_form(form, word):
     """The value of a word that has the form, or None if it does not have it."""
     kind, allowed = form
     if kind == NUMERAL:
-        return read_numeral(word, allowed)
+        return read_numeral(word, allowed[0], allowed[1])
     if kind == SHOWN:
         return shown_word(allowed, word, MAX_WRITTEN)
     if kind == LETTER:
@@ -45,13 +45,13 @@ def read_form(form, word):
     return word if word == allowed else None
 
 
-def read_numeral(word, most):
-    """The number that the word is the numeral of, or None if there is none from 0 to most."""
+def read_numeral(word, low, high):
+    """The number that the word is the numeral of, or None if there is none from low to high."""
     if word == "" or not all(digit in DIGITS for digit in word):
         return None
     if len(word) > 1 and word.startswith("0"):
         return None
     # Python does not turn a text of thousands of digits into a number.
-    if len(word) > len(str(most)) or int(word) > most:
+    if len(word) > len(str(high)) or not low <= int(word) <= high:
         return None
     return int(word)

@@ -12,7 +12,7 @@ from lagbound.words import lag_of, move_lag
 
 def growing_paper(twins):
     """A right growth paper for a machine beside itself, or None if the machine is steady."""
-    groups = loop_groups(twins.pairs, edge_table([(step[0], step[3]) for step in twins.steps]))
+    groups = loop_groups(twins.all_pairs, edge_table([(step[0], step[3]) for step in twins.steps]))
     inner = [step for step in twins.steps if groups[step[0]] == groups[step[3]]]
     paper = unbalanced_paper(twins, steps_by_source(inner))
     if paper is not None:

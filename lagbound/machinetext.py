@@ -22,9 +22,9 @@ def show_machine(machine):
 def read_machine(text):
     """The machine of the text."""
     lines = split_lines(text)
-    first_forms = [(EXACT, "machine"), (LETTERS, None), (LETTERS, None), (NUMERAL, MAX_STATES)]
+    first_forms = [(EXACT, "machine"), (LETTERS, None), (LETTERS, None), (NUMERAL, (0, MAX_STATES))]
     _, read, write, size = read_line(1, lines[0], first_forms)
-    state = (NUMERAL, size - 1)
+    state = (NUMERAL, (0, size - 1))
     written = (SHOWN, write)
     forms = {
         "begin": [state, written],

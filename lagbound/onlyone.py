@@ -70,7 +70,7 @@ def end_words(twins):
     ends = entries_by_state(twins.left.ends)
     mates = entries_by_state(twins.right.ends)
     tails = {}
-    for state, mate in twins.pairs:
+    for state, mate in twins.all_pairs:
         if state in ends and mate in mates:
             tails[(state, mate)] = ([end[1] for end in ends[state]], [end[1] for end in mates[mate]])
     return tails

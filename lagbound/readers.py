@@ -61,8 +61,7 @@ class Reader:
 
     def tell(self, word):
         """The told word, or None."""
-        rest = tail_of(self, 0, check_word(self._read, word))
-        return None if rest is None else self._first + rest
+        return told_by(self, check_word(self._read, word))
 
     def tail(self, state, word):
         """What the state writes over the word, its end included, or None."""
@@ -149,6 +148,12 @@ def run_over(reader, state, word):
         words.append(move[0])
         at = move[1]
     return at, "".join(words)
+
+
+def told_by(reader, word):
+    """The told word for a read word of any length, or None."""
+    rest = tail_of(reader, 0, word)
+    return None if rest is None else reader.first + rest
 
 
 def tail_of(reader, state, word):

@@ -10,7 +10,7 @@ from lagbound.words import check_word
 
 def twin_pairs(machine, *, other=None):
     """All twin pairs in ascending order."""
-    return list(twins_of(machine, other).pairs)
+    return list(twins_of(machine, other).all_pairs)
 
 
 def meeting_pairs(machine, *, other=None):

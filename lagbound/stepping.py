@@ -35,3 +35,21 @@ def labels_before(arcs, states, word):
 def leads_into(arcs, states):
     """Whether one of the arcs leads to one of the states."""
     return any(arc[3] in states for arc in arcs)
+
+
+def least_endings(arcs, ends):
+    """For each state that can end the least read word over which it does, and what is written over this word."""
+    endings = {state: ("", written) for state, written in reversed(ends)}
+    grown = True
+    while grown:
+        # All endings that a round finds have the same length, so that they are compared by their letters.
+        fresh = {}
+        for source, letter, written, target in arcs:
+            if source not in endings and target in endings:
+                word, rest = endings[target]
+                ending = (letter + word, written + rest)
+                fresh[source] = min(ending, fresh.get(source, ending))
+        for state, ending in fresh.items():
+            endings[state] = ending
+        grown = len(fresh) > 0
+    return endings

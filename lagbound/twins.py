@@ -18,8 +18,8 @@ class Twins:
         self.left = left
         self.right = right
         self.starts = begin_pairs(left, right)
-        self.pairs = found_pairs(left, right, self.starts)
-        self.steps = found_steps(left, right, self.pairs)
+        self.all_pairs = found_pairs(left, right, self.starts)
+        self.steps = found_steps(left, right, self.all_pairs)
         self.onward = steps_by_source(self.steps)
 
 
@@ -114,6 +114,6 @@ def meeting_of(twins):
     """The meeting pairs in ascending order."""
     ends = {end[0]: True for end in twins.left.ends}
     mates = {end[0]: True for end in twins.right.ends}
-    final = [pair for pair in twins.pairs if pair[0] in ends and pair[1] in mates]
+    final = [pair for pair in twins.all_pairs if pair[0] in ends and pair[1] in mates]
     backward = edge_table([(step[3], step[0]) for step in twins.steps])
     return sorted(all_reached(final, backward))

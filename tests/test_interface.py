@@ -54,6 +54,16 @@ FUNCTIONS = {
         "build": "(machine)", "rests": "(machine)", "is_rests": "(machine, reader, table)", "fate": "(machine)",
         "is_fate": "(machine, paper)",
     },
+    "readertext": {"show_reader": "(reader)", "read_reader": "(text)"},
+    "alike": {
+        "parting": "(first, second)", "alike": "(first, second)", "is_parting": "(first, second, paper)",
+        "alike_table": "(first, second)", "is_alike_table": "(first, second, table)", "reader_parting": "(first, second)",
+    },
+    "least": {
+        "useful_reader_states": "(reader)", "ahead_table": "(reader)", "is_ahead": "(reader, table)", "early": "(reader)",
+        "is_early": "(reader)", "least": "(reader)", "is_least": "(reader)", "apart": "(reader, i, j)",
+        "apart_table": "(reader)", "is_apart": "(reader, table)", "sure": "(reader, word)",
+    },
 }
 
 CLASSES = {
@@ -70,6 +80,10 @@ CLASSES = {
         "Reader": ("(read, write, first, moves, finals)", ("read", "write", "first", "moves", "finals"),
                    {"__len__": "(self)", "__rshift__": "(self, other)", "state_after": "(self, word)",
                     "written_after": "(self, word)", "tell": "(self, word)", "tail": "(self, state, word)"}),
+    },
+    "session": {
+        "Session": ("(reader)", ("state", "taken", "written", "held", "closed"),
+                    {"__len__": "(self)", "__iter__": "(self)", "push": "(self, letter)", "close": "(self)", "back": "(self)"}),
     },
 }
 
