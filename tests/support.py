@@ -1,6 +1,5 @@
 """Helpers of the tests: exact comparison of values, errors, wrong values, and plain reference answers."""
 
-import copy
 import itertools
 import random
 import unittest
@@ -41,6 +40,11 @@ def lists_in(value):
     return found
 
 
+def copied(value):
+    """The value with new lists and the same objects."""
+    return type(value)(map(copied, value)) if isinstance(value, (list, tuple)) else value
+
+
 def spoil(value):
     """Change every list in a value beyond recognition."""
     for row in lists_in(value):
@@ -61,7 +65,7 @@ class Case(unittest.TestCase):
     def fails(self, error, told, function, *args, **named):
         """The call raises exactly this class of error with these attributes, and changes no argument."""
         plain = [value for value in args if isinstance(value, (list, tuple))]
-        before = copy.deepcopy(plain)
+        before = copied(plain)
         with self.assertRaises(Exception) as caught:
             function(*args, **named)
         self.assertIs(type(caught.exception), error)
@@ -77,7 +81,7 @@ class Case(unittest.TestCase):
     def fresh(self, ask):
         """The same call answers the same after its answer was changed, and no list occurs twice in it."""
         first = ask()
-        kept = copy.deepcopy(first)
+        kept = copied(first)
         rows = lists_in(first)
         self.assertEqual(len(rows), len({id(row) for row in rows}), "a list occurs twice")
         spoil(first)

@@ -64,6 +64,17 @@ FUNCTIONS = {
         "is_early": "(reader)", "least": "(reader)", "is_least": "(reader)", "apart": "(reader, i, j)",
         "apart_table": "(reader)", "is_apart": "(reader, table)", "sure": "(reader, word)",
     },
+    "waiting": {
+        "greatest_held": "(reader)", "rest_after": "(machine, word)", "greatest_wait": "(machine)",
+        "wait_word": "(machine, length)",
+    },
+    "twopass": {"pass_paper": "(two_pass, word)", "is_pass_paper": "(machine, word, paper)"},
+    "rules": {
+        "spots": "(rules, word)", "rewrite": "(rules, word)", "is_spots": "(rules, word, paper)", "pending": "(rules)",
+        "rule_reader": "(rules)", "untouched": "(rules)", "rewrite_all": "(cascade, word)", "cascade_reader": "(cascade)",
+    },
+    "teaching": {"learn": "(teacher, *, most=16)", "lesson": "(teacher, reader)", "is_lesson": "(reader, paper)"},
+    "book": {"replay": "(lines)", "audit": "(rows)", "compare": "(first, second)"},
 }
 
 CLASSES = {
@@ -84,6 +95,19 @@ CLASSES = {
     "session": {
         "Session": ("(reader)", ("state", "taken", "written", "held", "closed"),
                     {"__len__": "(self)", "__iter__": "(self)", "push": "(self, letter)", "close": "(self)", "back": "(self)"}),
+    },
+    "twopass": {
+        "TwoPass": ("(machine)", ("labels", "rows"),
+                    {"labels_of": "(self, word)", "course": "(self, word)", "tell": "(self, word)"}),
+    },
+    "rules": {"Rules": ("(letters, pairs)", ("letters", "pairs"), {"__len__": "(self)"})},
+    "teaching": {
+        "Teacher": ("(reader)", ("read", "write", "words_asked", "wholes_asked"),
+                    {"__len__": "(self)", "__iter__": "(self)", "ask": "(self, word)", "whole": "(self, reader)"}),
+    },
+    "book": {
+        "Book": ("()", ("names",), {"__len__": "(self)", "__iter__": "(self)", "run": "(self, line)", "undo": "(self)",
+                                    "show": "(self, name)", "twin": "(self)"}),
     },
 }
 
