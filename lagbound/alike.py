@@ -59,9 +59,7 @@ def is_parting(first, second, paper):
 def is_all_told(machine, word, told):
     """Whether told is the only told word for the read word, or None if there is none."""
     words = least_words(machine, word, 2)
-    if told is None:
-        return len(words) == 0
-    return isinstance(told, str) and words == [told]
+    return words == ([] if told is None else [told])
 
 
 def alike_table(first, second):

@@ -58,25 +58,29 @@ class Learner:
     def learned(self):
         """The least form, which the last question was about."""
         while True:
-            if self.shortened() or self.drawn_back() or self.grown():
-                continue
-            reader = self.guess()
-            word = self.teacher.whole(reader)
-            if word is None:
-                return reader
-            self.add_endings(ends_of(word))
+            endings = self.missing_short() or self.missing_shorter()
+            head = None if endings else self.missing_head()
+            if endings:
+                self.add_endings(endings)
+            elif head is not None:
+                self.add_head(head)
+            else:
+                reader = self.guess()
+                word = self.teacher.whole(reader)
+                if word is None:
+                    return reader
+                self.add_endings(ends_of(word))
 
-    def shortened(self):
-        """Whether an ending was added because some word had none with less letters than there are states."""
-        for word, front in list(self.known_fronts.items()):
+    def missing_short(self):
+        """New endings because some word has none yet with less letters than there may be states, or an empty list."""
+        for word, front in self.known_fronts.items():
             if front is not None and word not in self.ended:
-                self.ended[word] = True
                 told = [ending for ending in self.tried if self.told(word + ending) is not None]
                 ending = min(told, key=word_key)
+                self.ended[word] = True
                 if len(ending) >= self.most:
-                    self.add_endings(ends_of(self.short_ending(word, ending)))
-                    return True
-        return False
+                    return ends_of(self.short_ending(word, ending))
+        return []
 
     def short_ending(self, word, ending):
         """An ending behind the word with less letters than there are states, made of pieces of a longer one."""
@@ -95,33 +99,31 @@ class Learner:
                     return rest
         raise TooLarge("states", self.most)
 
-    def drawn_back(self):
-        """Whether an ending was added because a head's front is no part of the fronts behind it."""
+    def missing_shorter(self):
+        """A new ending because the front of some head is no part of a front behind it, or an empty list."""
         for head in self.heads:
             front = self.known_fronts[head]
             for letter in self.teacher.read:
                 behind = self.known_fronts[head + letter]
                 if behind is not None and (front is None or not behind.startswith(front)):
                     told = [ending for ending in self.tried if self.is_unlike(head + letter + ending, front)]
-                    self.add_endings([letter + min(told, key=word_key)])
-                    return True
-        return False
+                    return [letter + min(told, key=word_key)]
+        return []
 
     def is_unlike(self, word, front):
         """Whether the word has a told word that does not begin with the front, which may be None."""
         told = self.told(word)
         return told is not None and (front is None or not told.startswith(front))
 
-    def grown(self):
-        """Whether a head was added because a word behind a head is like no head."""
+    def missing_head(self):
+        """A word behind a head that is like no head, or None."""
         rows = self.head_rows()
         for head in self.heads:
             for letter in self.teacher.read:
                 word = head + letter
                 if self.known_fronts[word] is not None and self.row_of(word) not in rows:
-                    self.add_head(word)
-                    return True
-        return False
+                    return word
+        return None
 
     def head_rows(self):
         """For the row of each head with a front the number of the head."""

@@ -46,7 +46,7 @@ def is_shared(reader, state, item):
     if not isinstance(item, tuple) or len(item) != 3:
         return False
     ahead, word1, word2 = item
-    if not is_word(reader.write, ahead) or not is_word(reader.read, word1) or not is_word(reader.read, word2):
+    if not is_word(reader.read, word1) or not is_word(reader.read, word2):
         return False
     tails = [tail_of(reader, state, word1), tail_of(reader, state, word2)]
     return None not in tails and common(tails) == ahead

@@ -33,12 +33,10 @@ class Tails:
             parts = shorter
 
     def shortened(self, state, parts):
-        """The common part of a state, after the final word and the common parts behind the moves are looked at."""
+        """The common part of a state, after the common parts behind its moves are looked at."""
+        # The final word of a state, if there is one, is its least tail.
         tail = self.endings[state][1]
         kept = parts[state]
-        last = self.lasts[state]
-        if last is not None and shared_length(tail, last) < kept[0]:
-            kept = (shared_length(tail, last), "")
         for letter, move in zip(self.alphabet, self.lines[state]):
             if move is not None and move[1] in parts:
                 other = self.common_behind(tail, letter, move, parts[move[1]])

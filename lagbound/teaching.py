@@ -98,19 +98,12 @@ def is_answered(reader, row):
         return False
     kind, question, answer = row
     if kind == WORD and is_word(reader.read, question):
-        return is_same(answer, told_by(reader, question))
+        return answer == told_by(reader, question)
     if kind == WHOLE and isinstance(question, str):
         other = shown_reader(question)
         if other is not None and same_alphabets(reader, other):
-            return is_same(answer, parting_word(reader, other))
+            return answer == parting_word(reader, other)
     return False
-
-
-def is_same(value, answer):
-    """Whether the value is the answer, a word or None."""
-    if answer is None:
-        return value is None
-    return isinstance(value, str) and value == answer
 
 
 def shown_reader(text):

@@ -17,19 +17,19 @@ class Labels:
     def __init__(self, machine):
         self.table = arcs_by_letter(machine)
         first = tuple(sorted(entries_by_state(machine.ends)))
-        self.found = [first]
+        self.lists = [first]
         self.numbers = {first: 0}
         self.onward = {}
 
     def in_front(self, number, letter):
         """The number of the label for the letter in front of what a label is for."""
         if (number, letter) not in self.onward:
-            members = {state: True for state in self.found[number]}
+            members = {state: True for state in self.lists[number]}
             rows = self.table[letter]
             label = tuple(sorted([state for state, arcs in rows.items() if leads_into(arcs, members)]))
             if label not in self.numbers:
-                self.numbers[label] = len(self.found)
-                self.found.append(label)
+                self.numbers[label] = len(self.lists)
+                self.lists.append(label)
             self.onward[(number, letter)] = self.numbers[label]
         return self.onward[(number, letter)]
 
@@ -42,12 +42,12 @@ class TwoPass:
         self._table = arcs_by_letter(machine)
         labels = Labels(machine)
         self._rows = []
-        while len(self._rows) < len(labels.found):
+        while len(self._rows) < len(labels.lists):
             number = len(self._rows)
             self._rows.append([labels.in_front(number, letter) for letter in machine.read])
-            if len(labels.found) > MAX_LABELS:
+            if len(labels.lists) > MAX_LABELS:
                 raise TooLarge("labels", MAX_LABELS)
-        self._found = labels.found
+        self._found = labels.lists
 
     @property
     def labels(self):
@@ -122,7 +122,7 @@ def labels_over_any(machine, word):
     backwards = [0]
     for letter in reversed(word):
         backwards.append(labels.in_front(backwards[-1], letter))
-    return [labels.found[number] for number in reversed(backwards)]
+    return [labels.lists[number] for number in reversed(backwards)]
 
 
 def is_label(value, label):

@@ -561,7 +561,7 @@ class Several(Case):
         self.assertIsNone(audit(rows[:5]))
         for at, (line, answer) in enumerate(rows):
             for row in ((line, answer + " "), (line, ""), (line, None), [line, answer], (line,), (line, answer, None), None, line,
-                        (None, answer), (1, 2), ("drop nothing", "dropped"), ("", ""), (line + " ", answer), True, ((line,), answer)):
+                        (None, answer), (1, 2), ("drop nothing", "dropped"), ("drop nothing", None), ("", ""), ("", None), (line + " ", answer), True, ((line,), answer)):
                 self.same(audit(rows[:at] + [row] + rows[at + 1:]), at, row)
         self.same(audit([("drop x", "refused NameUnknown")]), 0)
         kept = [(ONE, "machine 1")] + [("tell one a", "x")] * 199

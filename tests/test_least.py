@@ -135,6 +135,20 @@ class Ahead(Case):
             self.assertIs(is_ahead(loop, papers), True)
         self.assertIs(is_ahead(loop, [("x" * 5000, "a" * 5000, "a" * 5001)]), False)
 
+    def test_which_of_two_tails_goes_on_otherwise(self):
+        # Behind the move by a the words x and y follow; the least tail is xy, in which x or y comes second.
+        for first, second, word in (("x", "y", "aa"), ("y", "x", "ab")):
+            moves = [[("x", 1), None], [(first, 2), (second, 2)], [None, None]]
+            reader = Reader("ab", "xy", "", moves, ["xy", None, ""])
+            table = ahead_table(reader)
+            self.same(table, [("x", "", word), ("", "a", "b"), ("", "", "")])
+            self.assertIs(is_ahead(reader, table), True)
+            # The first tail ends where the other one goes on.
+            moves = [[("x", 1), None], [None, (second, 2)], [None, None]]
+            reader = Reader("ab", "xy", "", moves, ["xy", "", ""])
+            self.same(ahead_table(reader)[0], ("x", "", "a"))
+            self.assertIs(is_ahead(reader, ahead_table(reader)), True)
+
     def test_late_differences(self):
         # All tails share 99 letters; which letter comes next is decided by the moves that come last.
         reader = wheel(50, lambda state: "x", lambda state: "x" * 50 + "y" if state == 49 else None)

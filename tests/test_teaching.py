@@ -3,6 +3,7 @@
 from lagbound.alike import reader_parting
 from lagbound.errors import BadNumber, BadWord, Mismatch, TooLarge
 from lagbound.least import least
+from lagbound.learning import Learner
 from lagbound.readers import Reader, empty_reader
 from lagbound.readertext import show_reader
 from lagbound.teaching import Teacher, is_lesson, learn, lesson
@@ -206,6 +207,26 @@ class Learning(Case):
                 if isinstance(caught.exception, TooLarge):
                     self.assertIn((caught.exception.what, caught.exception.limit), [("states", most), ("written", 400)])
                 self.assertGreater(len(teacher), 0)
+
+    def test_short_endings(self):
+        # A word with a told word behind a long ending alone gets an ending with less letters than there may be states.
+        reader = wheel(5, lambda state: "x", lambda state: "" if state == 0 else None)
+        for length, most in ((4, 5), (9, 5), (14, 5), (44, 5), (44, 6), (44, 10)):
+            learner = Learner(Teacher(reader), most)
+            self.same(learner.missing_short(), [])
+            learner.add_endings(["a" * length])
+            expected = [] if length < most else ["a" * size for size in range(4, -1, -1)]
+            self.same(learner.missing_short(), expected)
+            self.same(learner.missing_short(), [])
+        for length, most in ((4, 4), (9, 4), (44, 1)):
+            learner = Learner(Teacher(reader), most)
+            learner.add_endings(["a" * length])
+            self.fails(TooLarge, {"what": "states", "limit": most}, learner.missing_short)
+        # The stretch that is left out may stand anywhere among the first letters.
+        moves = [[("", 1), None], [("", 2), ("", 1)], [None, ("", 3)], [None, None]]
+        learner = Learner(Teacher(Reader("ab", "x", "", moves, [None, None, None, ""])), 4)
+        learner.add_endings(["abbbbab"])
+        self.same(learner.missing_short(), ["aab", "ab", "b", ""])
 
     def test_nothing_else_is_changed(self):
         reader = Reader(*PARTS)
